@@ -1,0 +1,1 @@
+"""Steadymixes: two sides choose at once, by chances, and neither gains by another mix."""

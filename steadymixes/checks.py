@@ -1,0 +1,75 @@
+"""Errors for what is passed and is not of the kind that it must be."""
+
+from steadymixes.errors import InvalidGame, InvalidLot, InvalidMix, InvalidNumber, InvalidSide
+from steadymixes.kinds import are_chances, choice_fits, game_fits, lot_fits, mix_fits, side_fits
+
+
+def anew(value):
+    """An object in which all lists and tuples are built anew, so that an error keeps no caller's list."""
+    if type(value) is list:
+        return [anew(part) for part in value]
+    if type(value) is tuple:
+        return tuple([anew(part) for part in value])
+    return value
+
+
+def check_game(game):
+    """InvalidGame for what is no game."""
+    if not game_fits(game):
+        raise InvalidGame(anew(game))
+
+
+def check_side(side):
+    """InvalidSide for what is no side."""
+    if not side_fits(side):
+        raise InvalidSide(anew(side))
+
+
+def check_game_and_side(game, side):
+    """The two checks that most functions begin with."""
+    check_game(game)
+    check_side(side)
+
+
+def check_mix(game, side, mix):
+    """InvalidMix for what is no mix of the side."""
+    if not mix_fits(game, side, mix):
+        raise InvalidMix(anew(mix))
+
+
+def check_mixes(game, side, mixes):
+    """InvalidMix with the first of a list that is no mix of the side."""
+    for mix in mixes:
+        check_mix(game, side, mix)
+
+
+def check_pair(game, one, other):
+    """The checks of a game and a mix of each side."""
+    check_game(game)
+    check_mix(game, 0, one)
+    check_mix(game, 1, other)
+
+
+def check_lot(game, side, lot):
+    """InvalidLot for what is no lot of the side."""
+    if not lot_fits(game, side, lot):
+        raise InvalidLot(anew(lot))
+
+
+def check_lots(game, rows, columns):
+    """The checks of a game and a lot of each side."""
+    check_game(game)
+    check_lot(game, 0, rows)
+    check_lot(game, 1, columns)
+
+
+def check_choice(game, side, choice):
+    """InvalidNumber for what is no choice of the side."""
+    if not choice_fits(game, side, choice):
+        raise InvalidNumber(anew(choice))
+
+
+def check_weights(weights, many):
+    """InvalidNumber for what is no tuple of so many weights that come to 1."""
+    if not are_chances(weights, many):
+        raise InvalidNumber(anew(weights))

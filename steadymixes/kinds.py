@@ -1,0 +1,84 @@
+"""Whether any object is of a kind that the document tells."""
+
+from math import gcd
+
+from steadymixes.plays import size
+from steadymixes.ratios import sum_of
+
+BOUND = 1000
+MOST_CHOICES = 5
+
+
+def is_whole(value):
+    """Whether any object is an integer; True and False are none."""
+    return type(value) is int
+
+
+def is_tuple_of(value, many):
+    """Whether any object is a tuple of so many things."""
+    return type(value) is tuple and len(value) == many
+
+
+def is_fraction(value):
+    """Whether any object is a fraction in lowest terms."""
+    if not is_tuple_of(value, 2):
+        return False
+    above, below = value
+    return is_whole(above) and is_whole(below) and below >= 1 and gcd(above, below) == 1
+
+
+def are_chances(value, many):
+    """Whether any object is a tuple of so many fractions, none below nought, that come to 1."""
+    if not is_tuple_of(value, many):
+        return False
+    if not all([is_fraction(part) and part[0] >= 0 for part in value]):
+        return False
+    return sum_of(value) == (1, 1)
+
+
+def is_row(value):
+    """Whether any object can be a row of a table."""
+    if type(value) is not tuple or not 1 <= len(value) <= MOST_CHOICES:
+        return False
+    return all([is_whole(number) and -BOUND <= number <= BOUND for number in value])
+
+
+def table_fits(value):
+    """Whether any object can be a table of a game."""
+    if type(value) is not tuple or not 1 <= len(value) <= MOST_CHOICES:
+        return False
+    return all([is_row(row) for row in value]) and len(set([len(row) for row in value])) == 1
+
+
+def game_fits(value):
+    """Whether any object is a game."""
+    if not is_tuple_of(value, 2):
+        return False
+    first, second = value
+    if not table_fits(first) or not table_fits(second):
+        return False
+    return len(first) == len(second) and len(first[0]) == len(second[0])
+
+
+def side_fits(value):
+    """Whether any object is a side."""
+    return is_whole(value) and value in (0, 1)
+
+
+def mix_fits(game, side, value):
+    """Whether any object is a mix of a side."""
+    return are_chances(value, size(game, side))
+
+
+def choice_fits(game, side, value):
+    """Whether any object is a choice of a side."""
+    return is_whole(value) and 0 <= value < size(game, side)
+
+
+def lot_fits(game, side, value):
+    """Whether any object is a lot of a side."""
+    if type(value) is not tuple or not value:
+        return False
+    if not all([choice_fits(game, side, choice) for choice in value]):
+        return False
+    return all([value[at] < value[at + 1] for at in range(len(value) - 1)])

@@ -1,0 +1,1 @@
+"""Tests of steadymixes, by the promises of its document."""

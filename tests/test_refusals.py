@@ -1,0 +1,210 @@
+"""[3] Which error each function raises, with which value, and in which sequence."""
+
+import copy
+import unittest
+from itertools import product
+
+from steadymixes import errors
+from steadymixes.corners import mean_of, weights_for
+from steadymixes.games import best, even_mix, height, is_mix, lot, moved, without
+from steadymixes.steady import lots_paper, steady_with
+from tests.calls import CALLS, COLUMN_MIX, ROW_MIX, fitting
+from tests.judges import lists_in, parts, same
+from tests.samples import ANYTHING, GAME, OBLONG, Odd
+
+ERRORS = {
+    "game": errors.InvalidGame, "side": errors.InvalidSide, "row mix": errors.InvalidMix,
+    "column mix": errors.InvalidMix, "row lot": errors.InvalidLot, "column lot": errors.InvalidLot,
+    "row choice": errors.InvalidNumber, "column choice": errors.InvalidNumber, "column mixes": errors.InvalidMix,
+    "weights": errors.InvalidNumber,
+}
+
+TABLE = ((0, 0), (0, 0))
+WRONG = {
+    "game": [None, [TABLE, TABLE], (TABLE, [[0, 0], [0, 0]]), (TABLE, ((0, 0), (0, True))), (TABLE, ((0, 0),)),
+             (TABLE, ((0, 0), (0, 1001))), (((0,) * 6,), ((0,) * 6,)), (((0,),) * 6,) * 2, Odd(), {"game": [GAME]}],
+    "side": [2, -1, True, False, None, "1", (1,), [1], [], 10 ** 300, b"1", {1: [1]}, Odd()],
+    "row mix": [None, list(ROW_MIX), ([1, 3], (2, 3)), ((1, 3), (1, 3)), ((2, 6), (2, 3)), ((True, 1), (0, 1)),
+                ((-1, 3), (4, 3)), COLUMN_MIX, ((1, 1),), (), [], Odd(), 0, "ab"],
+    "column mix": [None, list(COLUMN_MIX), ((1, 2), [0, 1], (1, 2)), ((1, 2), (0, 2), (1, 2)), ROW_MIX, (), [],
+                   ((1, 1), (False, 1), (0, 1)), ((1, 1), (1, 1), (-1, 1)), Odd(), 1, {"mix": [1]}],
+    "row lot": [None, (), [0, 1], (1, 0), (0, 0), (0, 2), (2,), (-1,), (True,), (False, 1), ([0],), 0, "0", Odd()],
+    "column lot": [None, (), [0], (2, 0), (0, 0, 1), (3,), (-1, 0), (0, True), ((0,),), (None,), 1, {0: 1}, Odd()],
+    "row choice": [2, -1, 5, 10 ** 300, -10 ** 300],
+    "column choice": [3, -1, 7, 10 ** 300, -10 ** 300],
+    "weights": [None, [(1, 2), (1, 2)], ((1, 2),), ((1, 2), (1, 3)), ((2, 4), (1, 2)), ((3, 2), (-1, 2)), (), [],
+                ((True, 1), (0, 1)), ([1, 2], (1, 2)), ((1, 3),) * 3, 0, "ab", Odd(), {"weights": [1]}],
+}
+WRONG["column mixes"] = [[COLUMN_MIX, wrong, None] for wrong in WRONG["column mix"]]
+
+
+def refused(function, arguments):
+    """The error that a call raises."""
+    try:
+        told = function(*arguments)
+    except errors.MixError as error:
+        return error
+    raise AssertionError(f"{function.__name__}{tuple(arguments)!r} returned {told!r}")
+
+
+def value_of(kind, wrong):
+    """What the error of a wrong argument must keep: of mixes the first that is none."""
+    return wrong[1] if kind == "column mixes" else wrong
+
+
+class EachByItself(unittest.TestCase):
+    def test_the_error_of_a_wrong_argument(self):
+        for function, parameters in CALLS:
+            for at, (_, kind) in enumerate(parameters):
+                for wrong in WRONG.get(kind, []):
+                    arguments = fitting(parameters)
+                    arguments[at] = wrong
+                    with self.subTest(function.__name__, kind=kind, wrong=wrong):
+                        error = refused(function, arguments)
+                        self.assertIs(type(error), ERRORS[kind])
+                        self.assertTrue(same(error.value, value_of(kind, wrong)), error.value)
+
+    def test_objects_of_all_kinds_are_refused_as_games_and_sides(self):
+        for function, parameters in CALLS:
+            for at, (_, kind) in enumerate(parameters):
+                for wrong in ANYTHING if kind in ("game", "side") else []:
+                    if kind == "side" and (same(wrong, 0) or same(wrong, 1)):
+                        continue
+                    arguments = fitting(parameters)
+                    arguments[at] = wrong
+                    error = refused(function, arguments)
+                    self.assertIs(type(error), ERRORS[kind])
+                    self.assertTrue(same(error.value, wrong))
+
+    def test_where_any_object_may_stand_none_is_refused(self):
+        for function, parameters in CALLS:
+            if parameters[-1][1] == "any":
+                for value in ANYTHING + [wrong for told in WRONG.values() for wrong in told]:
+                    arguments = fitting(parameters)
+                    arguments[-1] = value
+                    self.assertIs(type(function(*arguments)), bool)
+
+    def test_a_lot_or_mix_of_the_other_side_is_none(self):
+        for call, error, value in (
+                (lambda: lot(OBLONG, 0, COLUMN_MIX), errors.InvalidMix, COLUMN_MIX),
+                (lambda: best(OBLONG, 0, ROW_MIX), errors.InvalidMix, ROW_MIX),
+                (lambda: best(OBLONG, 1, COLUMN_MIX), errors.InvalidMix, COLUMN_MIX),
+                (lambda: height(OBLONG, 0, COLUMN_MIX), errors.InvalidMix, COLUMN_MIX),
+                (lambda: height(OBLONG, 1, ROW_MIX), errors.InvalidMix, ROW_MIX),
+                (lambda: even_mix(OBLONG, 0, (2,)), errors.InvalidLot, (2,)),
+                (lambda: lots_paper(OBLONG, (2,), (0,)), errors.InvalidLot, (2,)),
+                (lambda: steady_with(OBLONG, (0,), (0, 3)), errors.InvalidLot, (0, 3))):
+            with self.assertRaises(error) as caught:
+                call()
+            self.assertEqual(caught.exception.value, value)
+
+
+class Sequence(unittest.TestCase):
+    def test_of_several_wrong_arguments_the_first_is_told(self):
+        for function, parameters in CALLS:
+            checked = [at for at, (_, kind) in enumerate(parameters) if kind in WRONG]
+            for chosen in product((False, True), repeat=len(checked)):
+                wrong_places = [at for at, wrong in zip(checked, chosen) if wrong]
+                if len(wrong_places) < 2:
+                    continue
+                for draw in range(3):
+                    arguments = fitting(parameters)
+                    for at in wrong_places:
+                        told = WRONG[parameters[at][1]]
+                        arguments[at] = told[(draw * 5 + at) % len(told)]
+                    first = wrong_places[0]
+                    kind = parameters[first][1]
+                    with self.subTest(function.__name__, arguments=arguments):
+                        error = refused(function, arguments)
+                        self.assertIs(type(error), ERRORS[kind])
+                        self.assertTrue(same(error.value, value_of(kind, arguments[first])))
+
+    def test_a_game_that_would_be_none_comes_last(self):
+        far = 10 ** 6
+        self.assertIs(type(refused(moved, [None, 2, 9, far])), errors.InvalidGame)
+        self.assertIsNone(refused(moved, [None, 2, 9, far]).value)
+        self.assertIs(type(refused(moved, [OBLONG, 2, 9, far])), errors.InvalidSide)
+        self.assertIs(type(refused(moved, [OBLONG, 0, 3, far])), errors.InvalidNumber)
+        error = refused(moved, [OBLONG, 0, 2, far])
+        self.assertIs(type(error), errors.InvalidGame)
+        self.assertEqual(error.value, (((5, 0, far + 2), (1, 4, far + 2)), OBLONG[1]))
+
+    def test_the_only_choice_is_refused_behind_the_side(self):
+        alone = (((1, 2),), ((3, 4),))
+        self.assertIs(type(refused(without, [alone, 2, 0])), errors.InvalidSide)
+        self.assertEqual(refused(without, [alone, 0, 0]).value, 0)
+        self.assertIs(type(refused(without, [alone, 0, 0])), errors.InvalidNumber)
+
+    def test_mixes_go_before_weights_and_before_the_mix(self):
+        for function in (mean_of, weights_for):
+            error = refused(function, [OBLONG, 1, [COLUMN_MIX, ROW_MIX, None], None])
+            self.assertIs(type(error), errors.InvalidMix)
+            self.assertEqual(error.value, ROW_MIX)
+        self.assertIs(type(refused(mean_of, [OBLONG, 1, [COLUMN_MIX], None])), errors.InvalidNumber)
+        self.assertIsNone(refused(weights_for, [OBLONG, 1, [], None]).value)
+
+
+class BuiltAnew(unittest.TestCase):
+    def check(self, function, arguments, at, place=None):
+        passed = arguments[at] if place is None else arguments[at][place]
+        before = copy.deepcopy(passed)
+        error = refused(function, arguments)
+        self.assertTrue(same(error.value, before))
+        kept = lists_in(error.value)
+        self.assertEqual(len({id(told) for told in kept}), len(kept))
+        self.assertFalse({id(told) for told in kept} & {id(told) for told in lists_in(passed)})
+        for told in lists_in(passed):
+            told.append("later")
+        self.assertTrue(same(error.value, before), error.value)
+        return error
+
+    def wrong_objects(self):
+        twice = [1]
+        deep = [0]
+        for _ in range(98):
+            deep = [deep]
+        return [[], [[]], ([],), [1, [2, [3]], ([4], [[5]])], (1, ([2], ([3],))), [twice, twice], (twice, [twice]),
+                deep, [None, True, "a", ([False],)], [[[0, 0]], [[0, 0]]], [((1, 1), [0, 1])]]
+
+    def test_lists_in_what_is_refused(self):
+        for function, parameters in CALLS:
+            for at, (_, kind) in enumerate(parameters):
+                if kind not in WRONG or kind in ("row choice", "column choice", "column mixes"):
+                    continue
+                for wrong in self.wrong_objects():
+                    arguments = fitting(parameters)
+                    arguments[at] = wrong
+                    with self.subTest(function.__name__, kind=kind):
+                        self.check(function, arguments, at)
+
+    def test_lists_in_a_refused_one_of_several_mixes(self):
+        for function in (mean_of, weights_for):
+            for wrong in self.wrong_objects():
+                self.check(function, [OBLONG, 1, [COLUMN_MIX, wrong], COLUMN_MIX], 2, 1)
+
+    def test_a_tuple_stays_a_tuple_and_a_list_a_list(self):
+        error = refused(is_mix, [([1, (2, [3])], (4, [5])), 0, None])
+        self.assertTrue(same(error.value, ([1, (2, [3])], (4, [5]))))
+
+    def test_an_object_of_another_kind_is_kept(self):
+        held = Odd()
+        self.assertIs(refused(is_mix, [held, 0, None]).value, held)
+        self.assertIs(refused(is_mix, [[(held,)], 0, None]).value[0][0], held)
+
+    def test_dicts_and_sets_are_told_as_they_are(self):
+        for value in ({"a": [1, (2,)]}, {1, 2}, [{"a": [1]}, {(1, 2)}], ({}, [])):
+            self.assertEqual(refused(is_mix, [value, 0, None]).value, value)
+            self.assertEqual(refused(lot, [GAME, value, None]).value, value)
+
+    def test_a_call_that_raises_changes_nothing(self):
+        mixes = [COLUMN_MIX, [((1, 1), (0, 1))], parts(1, 1, 1)]
+        before = copy.deepcopy(mixes)
+        refused(mean_of, [OBLONG, 1, mixes, ((1, 1),)])
+        self.assertTrue(same(mixes, before))
+        again = [refused(weights_for, [OBLONG, 1, mixes, COLUMN_MIX]).value for _ in range(2)]
+        self.assertIsNot(again[0], again[1])
+        self.assertTrue(same(again[0], again[1]))
+
+
+if __name__ == "__main__":
+    unittest.main()
