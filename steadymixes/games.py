@@ -1,7 +1,7 @@
 """Games, sides, mixes and lots, and what the sides get."""
 
 from steadymixes.checks import check_choice, check_game, check_game_and_side, check_lot, check_mix, check_pair
-from steadymixes.errors import InvalidGame, InvalidNumber
+from steadymixes.errors import InvalidNumber
 from steadymixes.kinds import game_fits, lot_fits, mix_fits
 from steadymixes.plays import best_choices, exchanged, lot_of, size, spread, taken
 from steadymixes.ratios import ratio, scaled
@@ -95,8 +95,7 @@ def moved(game, side, choice, number):
     first, second = game if side == 0 else exchanged(game)
     changed = tuple([raised(row, choice, number) for row in first]), second
     new_game = changed if side == 0 else exchanged(changed)
-    if not game_fits(new_game):
-        raise InvalidGame(new_game)
+    check_game(new_game)
     return new_game
 
 

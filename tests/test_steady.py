@@ -168,10 +168,18 @@ class Papers(unittest.TestCase):
     def test_five_rows_and_five_columns(self):
         self.check(FULL)
         self.check(filled(5, 5, -1000, 1000))
+        self.check(every_shape(42, 1000)[-1])
         draw = Random(35)
         for game in LARGE + [STEPS]:
             told = lots_of(game)
             self.check(game, draw.sample(told, min(len(told), 60)))
+
+    def test_numbers_at_the_bounds(self):
+        draw = Random(43)
+        for _ in range(4):
+            game = tuple(tuple(tuple(draw.choice((-1000, 1000, 999, -999, 0)) for _ in range(5)) for _ in range(5))
+                         for _ in range(2))
+            self.check(game, lots_of(game)[::3] + [((0, 1, 2, 3, 4), (0,)), ((0,), (0, 1, 2, 3, 4))])
 
     def test_all_lots_have_pairs_where_nothing_differs(self):
         game = filled(5, 5, 0)
