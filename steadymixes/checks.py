@@ -1,7 +1,28 @@
 """Errors for what is passed and is not of the kind that it must be."""
 
-from steadymixes.errors import InvalidGame, InvalidLot, InvalidMix, InvalidNumber, InvalidSide
-from steadymixes.kinds import are_chances, choice_fits, game_fits, lot_fits, mix_fits, side_fits
+from steadymixes.errors import (
+    InvalidChanges,
+    InvalidGame,
+    InvalidLabel,
+    InvalidLot,
+    InvalidMix,
+    InvalidNumber,
+    InvalidSide,
+    NotSteady,
+)
+from steadymixes.kinds import (
+    are_chances,
+    changes_fit,
+    choice_fits,
+    game_fits,
+    is_whole,
+    label_fits,
+    lot_fits,
+    mix_fits,
+    side_fits,
+    steady_fits,
+)
+from steadymixes.plays import steady_pair
 
 
 def anew(value):
@@ -43,11 +64,16 @@ def check_mixes(game, side, mixes):
         check_mix(game, side, mix)
 
 
+def check_mixes_of_both(game, one, other):
+    """InvalidMix for what is no mix of its side."""
+    check_mix(game, 0, one)
+    check_mix(game, 1, other)
+
+
 def check_pair(game, one, other):
     """The checks of a game and a mix of each side."""
     check_game(game)
-    check_mix(game, 0, one)
-    check_mix(game, 1, other)
+    check_mixes_of_both(game, one, other)
 
 
 def check_lot(game, side, lot):
@@ -73,3 +99,33 @@ def check_weights(weights, many):
     """InvalidNumber for what is no tuple of so many weights that come to 1."""
     if not are_chances(weights, many):
         raise InvalidNumber(anew(weights))
+
+
+def check_index(index, many):
+    """InvalidNumber for what is no index into a list of so many."""
+    if not is_whole(index) or not 0 <= index < many:
+        raise InvalidNumber(anew(index))
+
+
+def check_steady(game, one, other):
+    """NotSteady for a mix of each side that are no steady pair."""
+    if not steady_pair(game, one, other):
+        raise NotSteady(anew((one, other)))
+
+
+def check_start(game, start):
+    """NotSteady for what is neither None, which is the beginning, nor a steady pair."""
+    if start is not None and not steady_fits(game, start):
+        raise NotSteady(anew(start))
+
+
+def check_label(game, label):
+    """InvalidLabel for what is no label of the game."""
+    if not label_fits(game, label):
+        raise InvalidLabel(anew(label))
+
+
+def check_changes(game, changes):
+    """InvalidChanges for what is no changes for the game."""
+    if not changes_fit(game, changes):
+        raise InvalidChanges(anew(changes))

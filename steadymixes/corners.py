@@ -57,6 +57,38 @@ def corners_of(game, side):
     return ascending(list(found))
 
 
+def told_corners(game, side):
+    """The ascending list of all corners of a side, each with its labels."""
+    return [(corner, labels_of(game, side, corner)) for corner in corners_of(game, side)]
+
+
+def both_corners(game):
+    """The corners of both sides, each with its labels."""
+    return told_corners(game, 0), told_corners(game, 1)
+
+
+def flat_among(told, needed):
+    """Those of corners told with their labels that have all labels that are needed."""
+    return [corner for corner, had in told if all([label in had for label in needed])]
+
+
+def partners(both):
+    """For each corner of the side 0 the places of those of the side 1 that it is steady with."""
+    ones, others = both
+    # A pair is steady just if no label is missing.
+    many = len(ones[0][0]) + len(others[0][0])
+    found = []
+    for _, had in ones:
+        found.append(tuple([at for at, (_, told) in enumerate(others) if len(set(had + told)) == many]))
+    return found
+
+
+def steady_among(both):
+    """The ascending list of the steady pairs of corners."""
+    ones, others = both
+    return [(ones[at][0], others[place][0]) for at, places in enumerate(partners(both)) for place in places]
+
+
 def labels(game, side, mix):
     """The labels of a mix of a side."""
     check_game_and_side(game, side)
@@ -113,10 +145,4 @@ def flat_corners(game, side, mix):
     """The ascending list of the corners that have all labels of a mix."""
     check_game_and_side(game, side)
     check_mix(game, side, mix)
-    needed = labels_of(game, side, mix)
-    found = []
-    for corner in corners_of(game, side):
-        had = labels_of(game, side, corner)
-        if all([label in had for label in needed]):
-            found.append(corner)
-    return found
+    return flat_among(told_corners(game, side), labels_of(game, side, mix))

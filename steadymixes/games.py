@@ -3,7 +3,7 @@
 from steadymixes.checks import check_choice, check_game, check_game_and_side, check_lot, check_mix, check_pair
 from steadymixes.errors import InvalidNumber
 from steadymixes.kinds import game_fits, lot_fits, mix_fits
-from steadymixes.plays import best_choices, exchanged, lot_of, size, spread, taken
+from steadymixes.plays import best_choices, exchanged, height_over, lot_of, size, spread, taken
 from steadymixes.ratios import ratio, scaled
 
 
@@ -65,8 +65,7 @@ def height(game, side, mix):
     """What the other side gets by a best choice against a mix of a side."""
     check_game_and_side(game, side)
     check_mix(game, side, mix)
-    numbers, below = taken(game, 1 - side, mix)
-    return ratio(max(numbers), below)
+    return height_over(game, side, mix)
 
 
 def gains(game, one, other):

@@ -2,7 +2,7 @@
 
 from math import gcd
 
-from steadymixes.plays import size
+from steadymixes.plays import size, steady_pair
 from steadymixes.ratios import sum_of
 
 BOUND = 1000
@@ -82,3 +82,22 @@ def lot_fits(game, side, value):
     if not all([choice_fits(game, side, choice) for choice in value]):
         return False
     return all([value[at] < value[at + 1] for at in range(len(value) - 1)])
+
+
+def label_fits(game, value):
+    """Whether any object is a label of a game."""
+    return is_tuple_of(value, 2) and side_fits(value[0]) and choice_fits(game, value[0], value[1])
+
+
+def changes_fit(game, value):
+    """Whether any object is changes for a game."""
+    # Changes have all that makes two tables a game, and the game's own shape.
+    return game_fits(value) and all([size(value, side) == size(game, side) for side in (0, 1)])
+
+
+def steady_fits(game, value):
+    """Whether any object is a steady pair of a game."""
+    if not is_tuple_of(value, 2):
+        return False
+    one, other = value
+    return mix_fits(game, 0, one) and mix_fits(game, 1, other) and steady_pair(game, one, other)

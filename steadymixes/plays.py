@@ -58,6 +58,12 @@ def best_choices(game, side, mix):
     return tuple([choice for choice, number in enumerate(numbers) if number == most])
 
 
+def height_over(game, side, mix):
+    """What the other side gets by a best choice against a mix of a side."""
+    numbers, below = taken(game, 1 - side, mix)
+    return ratio(max(numbers), below)
+
+
 def steady_pair(game, one, other):
     """Whether each choice of each lot is best against the other mix."""
     rows = best_choices(game, 0, other)

@@ -28,6 +28,12 @@ def times(one, other):
     return ratio(one[0] * other[0], one[1] * other[1])
 
 
+def extremes(parts):
+    """The least and the greatest of fractions."""
+    numbers, below = scaled(parts)
+    return ratio(min(numbers), below), ratio(max(numbers), below)
+
+
 def ascending(mixes):
     """Mixes without two alike in one list, ascending by the worth of their fractions."""
     # Fractions as tuples would compare by their integers; over one common below those are the worths.

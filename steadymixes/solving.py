@@ -46,6 +46,17 @@ def only_solution(rows, many):
     return [row[many] for row in rows[:many]], below
 
 
+def determinant(rows):
+    """The determinant of as many rows as columns."""
+    if not rows:
+        return 1
+    total = 0
+    for at, number in enumerate(rows[0]):
+        rest = determinant([row[:at] + row[at + 1:] for row in rows[1:]])
+        total += rest * number if at % 2 == 0 else -rest * number
+    return total
+
+
 def opening(rows, wanted, many, signs):
     """The rows to begin with: a spare unknown in each, and the cost of all spares in the last row."""
     table = []

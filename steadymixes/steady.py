@@ -1,7 +1,7 @@
 """Steady pairs, and for each two lots a steady pair or a bar."""
 
 from steadymixes.checks import check_game, check_lots, check_pair
-from steadymixes.corners import corners_of, labels_of
+from steadymixes.corners import both_corners, steady_among
 from steadymixes.kinds import is_tuple_of, is_whole, mix_fits, side_fits
 from steadymixes.plays import lot_of, lots_of, size, spread, steady_pair, table_of
 from steadymixes.solving import point_or_wall
@@ -16,15 +16,8 @@ def is_steady(game, one, other):
 def some_steady(game):
     """A steady pair of a game."""
     check_game(game)
-    # Of every game some steady pair has corners alone, and a pair is steady just if no label is missing.
-    others = [(other, labels_of(game, 1, other)) for other in corners_of(game, 1)]
-    many = size(game, 0) + size(game, 1)
-    for one in corners_of(game, 0):
-        had = labels_of(game, 0, one)
-        for other, told in others:
-            if len(set(had + told)) == many:
-                return one, other
-    return None
+    # Of every game some steady pair has corners alone.
+    return steady_among(both_corners(game))[0]
 
 
 def steady_with(game, rows, columns):

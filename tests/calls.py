@@ -1,12 +1,15 @@
 """All functions of the package, each with its parameters and arguments that fit."""
 
-from steadymixes import corners, games, steady
+from steadymixes import blocks, corners, games, islands, paths, signs, steady
+from steadymixes.errors import MixError
 
-from tests.samples import OBLONG
+from tests.samples import CLEAR, OBLONG
 
 # What is told of a parameter: the kind of its argument. The sides of mixes, lots and choices are those of OBLONG,
-# of two rows and three columns, with the side 1 where a side is passed.
+# of two rows and three columns, with the side 1 where a side is passed. CLEAR is of the same shape, without ties.
 ROW_MIX, COLUMN_MIX = ((1, 3), (2, 3)), ((1, 2), (0, 1), (1, 2))
+STEADY_PAIR = ((1, 2), (1, 2)), ((1, 2), (1, 2), (0, 1))
+CLEAR_PAIR = ((7, 12), (5, 12)), ((2, 5), (0, 1), (3, 5))
 FITTING = {
     "game": OBLONG,
     "side": 1,
@@ -20,7 +23,19 @@ FITTING = {
     "number": 7,
     "column mixes": [((1, 1), (0, 1), (0, 1)), ((0, 1), (0, 1), (1, 1))],
     "weights": ((1, 2), (1, 2)),
+    "steady one": STEADY_PAIR[0],
+    "steady other": STEADY_PAIR[1],
+    "index": 0,
+    "clear game": CLEAR,
+    "clear one": CLEAR_PAIR[0],
+    "clear other": CLEAR_PAIR[1],
+    "label": (1, 2),
+    "start": CLEAR_PAIR,
+    "changes": (((1, -7, 3), (0, 2, 1)), ((1000, 5, 0), (3, -1000, 8))),
 }
+# What is refused of some kinds is what is refused of others.
+LIKE = {"steady one": "row mix", "clear one": "row mix", "steady other": "column mix", "clear other": "column mix",
+        "clear game": "game"}
 
 CALLS = [
     (games.is_game, [("value", "any")]),
@@ -48,9 +63,36 @@ CALLS = [
     (corners.mean_of, [("game", "game"), ("side", "side"), ("mixes", "column mixes"), ("weights", "weights")]),
     (corners.weights_for, [("game", "game"), ("side", "side"), ("mixes", "column mixes"), ("mix", "column mix")]),
     (corners.flat_corners, [("game", "game"), ("side", "side"), ("mix", "column mix")]),
+    (blocks.steady_corners, [("game", "game")]),
+    (blocks.blocks, [("game", "game")]),
+    (blocks.blocks_of, [("game", "game"), ("one", "steady one"), ("other", "steady other")]),
+    (blocks.block_weights, [("game", "game"), ("index", "index"), ("one", "row mix"), ("other", "column mix")]),
+    (blocks.islands, [("game", "game")]),
+    (blocks.gets_of, [("game", "game"), ("index", "index")]),
+    (signs.tie, [("game", "game")]),
+    (signs.tie_holds, [("game", "game"), ("value", "any")]),
+    (signs.sign, [("game", "clear game"), ("one", "clear one"), ("other", "clear other")]),
+    (signs.signed, [("game", "clear game")]),
+    (paths.path, [("game", "clear game"), ("label", "label"), ("start", "start")]),
+    (paths.led, [("game", "clear game"), ("label", "label"), ("start", "start")]),
+    (paths.pairings, [("game", "clear game"), ("label", "label")]),
+    (islands.unties, [("game", "game"), ("changes", "changes")]),
+    (islands.comes_out, [("game", "game"), ("changes", "changes")]),
+    (islands.some_changes, [("game", "game")]),
+    (islands.island_signs, [("game", "game")]),
+    (islands.stays, [("game", "game")]),
 ]
 
 
 def fitting(parameters):
     """Arguments that fit, lists among them new."""
     return [list(FITTING[kind]) if type(FITTING[kind]) is list else FITTING[kind] for _, kind in parameters]
+
+
+def refused(function, arguments):
+    """The error that a call raises."""
+    try:
+        told = function(*arguments)
+    except MixError as error:
+        return error
+    raise AssertionError(f"{function.__name__}{tuple(arguments)!r} returned {told!r}")

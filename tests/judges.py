@@ -1,7 +1,8 @@
 """What the tests judge answers by: worked out with Fraction, and by none of the package's own code."""
 
 from fractions import Fraction
-from itertools import combinations
+from functools import lru_cache
+from itertools import combinations, permutations
 
 
 def same(one, other):
@@ -198,7 +199,13 @@ def only_point(rows):
 
 
 def all_corners(game, side):
-    """All corners of a side, ascending by worth: the ends of chances and height over them."""
+    """All corners of a side, ascending by worth."""
+    return list(ends_of(game, side))
+
+
+@lru_cache(maxsize=None)
+def ends_of(game, side):
+    """All ends of chances and height over them, without the height."""
     many, theirs = size(game, side), size(game, 1 - side)
     planes = [[1 if k == at else 0 for k in range(many)] + [0, 0] for at in range(many)]
     planes += [[number_at(game, 1 - side, at, own) for own in range(many)] + [-1, 0] for at in range(theirs)]
@@ -210,10 +217,132 @@ def all_corners(game, side):
         mix = tuple(part(chance) for chance in point[:many])
         if height_of(game, side, mix) <= point[many]:
             found.append(point[:many])
-    return [tuple(part(chance) for chance in point) for point in sorted(found)]
+    return tuple(tuple(part(chance) for chance in point) for point in sorted(found))
 
 
 def mean(mixes, weights):
     """The mean of mixes by weights, as a list of Fractions."""
     return [sum(worth(weight) * worth(mix[at]) for mix, weight in zip(mixes, weights))
             for at in range(len(mixes[0]))]
+
+
+def ascending(told):
+    """Mixes, or tuples of mixes, or tuples of these, sorted by worth."""
+    return sorted(told, key=worths_in)
+
+
+def worths_in(told):
+    """What has mixes in it, with a Fraction in the place of each of their fractions."""
+    if type(told) is tuple and len(told) == 2 and type(told[0]) is int:
+        return worth(told)
+    return [worths_in(inner) for inner in told]
+
+
+@lru_cache(maxsize=None)
+def steady_ends(game):
+    ones, others = all_corners(game, 0), all_corners(game, 1)
+    return tuple((one, other) for one in ones for other in others if steady(game, one, other))
+
+
+def steady_corners(game):
+    """All steady pairs of corners, ascending by worth."""
+    return list(steady_ends(game))
+
+
+def all_blocks(game):
+    """All blocks, ascending, from what each set of ones has in common; of games without too many ones."""
+    near = {}
+    for one, other in steady_corners(game):
+        near.setdefault(one, set()).add(other)
+    found = set()
+    for length in range(1, len(near) + 1):
+        for chosen in combinations(near, length):
+            others = set.intersection(*[near[one] for one in chosen])
+            ones = [one for one in near if others <= near[one]]
+            if others:
+                found.add((tuple(ascending(ones)), tuple(ascending(others))))
+    return ascending(found)
+
+
+def hanging(blocks):
+    """The islands: from each block on to all that have a corner of each side in common."""
+    islands = []
+    for start in range(len(blocks)):
+        reached = {start}
+        for _ in blocks:
+            reached |= {at for at, block in enumerate(blocks) for known in reached
+                        if all(set(mine) & set(theirs) for mine, theirs in zip(block, blocks[known]))}
+        if sorted(reached) not in islands:
+            islands.append(sorted(reached))
+    return sorted(islands)
+
+
+def in_block(game, block, pair):
+    """Whether each mix has all labels that the corners of a block's side have in common."""
+    for side in (0, 1):
+        shared = set.intersection(*[set(labels_of(game, side, corner)) for corner in block[side]])
+        if not shared <= set(labels_of(game, side, pair[side])):
+            return False
+    return True
+
+
+def determinant(rows):
+    """The sum over all ways to take a number of each row and column."""
+    total = 0
+    for order in permutations(range(len(rows))):
+        turns = sum(order[a] > order[b] for a, b in combinations(range(len(rows)), 2))
+        product = -1 if turns % 2 else 1
+        for row, column in zip(rows, order):
+            product *= row[column]
+        total += product
+    return total
+
+
+def sign_of(game, pair, lift=1001):
+    """The sign of a steady pair of a game without ties."""
+    rows, columns = lot_of(pair[0]), lot_of(pair[1])
+    product = -1 if len(rows) % 2 == 0 else 1
+    for table in game:
+        product *= determinant([[table[row][column] + lift for column in columns] for row in rows])
+    return 1 if product > 0 else -1
+
+
+def tie_is_right(game, value):
+    """Whether a value is (side, mix), a mix of that side against which more choices are best than its lot has."""
+    if type(value) is not tuple or len(value) != 2 or type(value[0]) is not int or value[0] not in (0, 1):
+        return False
+    side, mix = value
+    return good_chances(mix, size(game, side)) and len(best_of(game, 1 - side, mix)) > len(lot_of(mix))
+
+
+def tied(game):
+    """Whether a corner has more best choices against it than choices in its lot."""
+    return any(len(best_of(game, 1 - side, mix)) > len(lot_of(mix))
+               for side in (0, 1) for mix in all_corners(game, side))
+
+
+# Of a changed game at one over this e little enough is told by games with integers of at most 1000.
+FAR = 10 ** 60
+
+
+def changed(game, changes):
+    """The changed game at one over FAR, times FAR."""
+    return tuple(tuple(tuple(FAR * number + more for number, more in zip(*rows)) for rows in zip(table, change))
+                 for table, change in zip(game, changes))
+
+
+def nearby(mix):
+    """The mix of fractions of not too many figures that a mix of a changed game is nearest to."""
+    return tuple(part(Fraction(*chance).limit_denominator(10 ** 25)) for chance in mix)
+
+
+def coming_out(game, changes):
+    """What comes out of a game by changes, None if they do not untie it."""
+    near = changed(game, changes)
+    if tied(near):
+        return None
+    found = []
+    for pair in steady_corners(near):
+        limits = tuple(nearby(mix) for mix in pair)
+        found.append((lot_of(pair[0]), lot_of(pair[1]), sign_of(near, pair, 1001 * FAR), limits))
+    return sorted(found)

@@ -7,14 +7,18 @@ import unittest
 from random import Random
 
 import steadymixes
-from steadymixes.corners import corners, flat_corners, mean_of, weights_for
+from steadymixes.blocks import blocks, islands
+from steadymixes.corners import corners, mean_of, weights_for
+from steadymixes.errors import InvalidChanges
 from steadymixes.games import is_game, is_lot, is_mix
-from steadymixes.steady import lots_paper_holds, pure, whole_paper
-from tests.calls import CALLS, COLUMN_MIX, ROW_MIX, fitting
+from steadymixes.islands import island_signs, stays, unties
+from steadymixes.signs import tie_holds
+from steadymixes.steady import lots_paper_holds
+from tests.calls import CALLS, COLUMN_MIX, fitting, refused
 from tests.judges import lists_in, parts, same
-from tests.samples import GAME, LARGE, OBLONG, SMALL, drawn_mix, filled
+from tests.samples import ALIKE, GAME, IDLE, LARGE, OBLONG, SMALL, TWOFOLD, drawn_mix, filled
 
-WHETHER = "is_game is_mix is_lot is_steady lots_paper_holds is_corner".split()
+WHETHER = "is_game is_mix is_lot is_steady lots_paper_holds is_corner tie_holds unties".split()
 
 
 def kinds_in(value):
@@ -66,8 +70,8 @@ class Calls(unittest.TestCase):
 
     def test_what_is_told_does_not_hang_on_what_was_asked_before(self):
         games = SMALL + LARGE[:2]
-        ahead = [[corners(game, side) for side in (0, 1)] for game in games]
-        behind = [[corners(game, side) for side in (0, 1)] for game in reversed(games)]
+        ahead = [[corners(game, 0), corners(game, 1), blocks(game), island_signs(game)] for game in games]
+        behind = [[corners(game, 0), corners(game, 1), blocks(game), island_signs(game)] for game in reversed(games)]
         self.assertTrue(same(ahead, behind[::-1]))
 
     def test_true_is_not_taken_for_one_asked_before(self):
@@ -81,17 +85,37 @@ class Calls(unittest.TestCase):
             self.assertIs(is_lot(GAME, 0, (False, True)), False)
             self.assertIs(lots_paper_holds(GAME, (0,), (0, 1), ("bar", 0, (1, -1))), True)
             self.assertIs(lots_paper_holds(GAME, (0,), (0, 1), ("bar", False, (True, -1))), False)
+            self.assertIs(tie_holds(ALIKE, (0, ((1, 1), (0, 1)))), True)
+            self.assertIs(tie_holds(ALIKE, (False, ((1, 1), (0, 1)))), False)
+            self.assertIs(tie_holds(ALIKE, (0, ((True, 1), (0, 1)))), False)
+            self.assertIs(unties(ALIKE, (((0, 0), (1, 0)), ((0, 1), (0, 0)))), True)
+            error = refused(unties, [ALIKE, (((0, 0), (True, 0)), ((0, 1), (0, 0)))])
+            self.assertIs(type(error), InvalidChanges)
+
+    def check_lists(self, make):
+        """Each list that is told is a new one, and stands in one place; tells how many there are."""
+        told, again = make(), make()
+        before = copy.deepcopy(told)
+        found = lists_in(told)
+        self.assertEqual(len({id(told) for told in found + lists_in(again)}), 2 * len(found))
+        for inner in found:
+            inner.clear()
+        self.assertTrue(same(make(), before))
+        return len(found)
 
     def test_a_list_that_is_told_is_new(self):
-        for make in (lambda: corners(OBLONG, 1), lambda: pure(GAME), lambda: whole_paper(GAME),
-                     lambda: flat_corners(OBLONG, 0, ROW_MIX)):
-            told = make()
-            before = copy.deepcopy(told)
-            found = lists_in(told)
-            self.assertEqual(len(found), 1)
-            told.clear()
-            self.assertTrue(same(make(), before))
-            self.assertIsNot(make(), make())
+        telling = "pure whole_paper corners flat_corners steady_corners blocks islands signed path pairings comes_out" \
+            " island_signs stays".split()
+        for function, parameters in CALLS:
+            arguments = fitting(parameters)
+            with self.subTest(function.__name__):
+                many = self.check_lists(lambda: function(*arguments))
+                self.assertEqual(many > 0, function.__name__ in telling)
+
+    def test_lists_within_lists_are_new(self):
+        self.assertEqual(self.check_lists(lambda: islands(TWOFOLD)), 3)
+        self.assertEqual(self.check_lists(lambda: islands(GAME)), 4)
+        self.assertEqual(self.check_lists(lambda: stays(IDLE)), 1)
 
     def test_the_kinds_of_what_is_told(self):
         for function, parameters in CALLS:
@@ -115,6 +139,10 @@ class Places(unittest.TestCase):
             "games": "is_game is_mix is_lot lot even_mix gets best height gains turned moved without",
             "steady": "is_steady some_steady steady_with pure lots_paper lots_paper_holds whole_paper",
             "corners": "labels is_corner corners mean_of weights_for flat_corners",
+            "blocks": "steady_corners blocks blocks_of block_weights islands gets_of",
+            "signs": "tie tie_holds sign signed",
+            "paths": "path led pairings",
+            "islands": "unties comes_out some_changes island_signs stays",
         }
         told = {f"steadymixes.{module} {name}" for module, listed in names.items() for name in listed.split()}
         self.assertEqual({f"{function.__module__} {function.__name__}" for function, _ in CALLS}, told)

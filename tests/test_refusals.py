@@ -5,18 +5,23 @@ import unittest
 from itertools import product
 
 from steadymixes import errors
+from steadymixes.blocks import block_weights, blocks_of
 from steadymixes.corners import mean_of, weights_for
-from steadymixes.games import best, even_mix, height, is_mix, lot, moved, without
+from steadymixes.games import best, even_mix, height, is_mix, lot, moved, turned, without
+from steadymixes.islands import comes_out
+from steadymixes.paths import led, path
+from steadymixes.signs import sign, signed
 from steadymixes.steady import lots_paper, steady_with
-from tests.calls import CALLS, COLUMN_MIX, ROW_MIX, fitting
+from tests.calls import CALLS, CLEAR_PAIR, COLUMN_MIX, LIKE, ROW_MIX, STEADY_PAIR, fitting, refused
 from tests.judges import lists_in, parts, same
-from tests.samples import ANYTHING, GAME, OBLONG, Odd
+from tests.samples import ALIKE, ANYTHING, CLEAR, GAME, OBLONG, ONE_ROW, Odd, filled
 
 ERRORS = {
     "game": errors.InvalidGame, "side": errors.InvalidSide, "row mix": errors.InvalidMix,
     "column mix": errors.InvalidMix, "row lot": errors.InvalidLot, "column lot": errors.InvalidLot,
     "row choice": errors.InvalidNumber, "column choice": errors.InvalidNumber, "column mixes": errors.InvalidMix,
-    "weights": errors.InvalidNumber,
+    "weights": errors.InvalidNumber, "index": errors.InvalidNumber, "label": errors.InvalidLabel,
+    "start": errors.NotSteady, "changes": errors.InvalidChanges,
 }
 
 TABLE = ((0, 0), (0, 0))
@@ -34,17 +39,22 @@ WRONG = {
     "column choice": [3, -1, 7, 10 ** 300, -10 ** 300],
     "weights": [None, [(1, 2), (1, 2)], ((1, 2),), ((1, 2), (1, 3)), ((2, 4), (1, 2)), ((3, 2), (-1, 2)), (), [],
                 ((True, 1), (0, 1)), ([1, 2], (1, 2)), ((1, 3),) * 3, 0, "ab", Odd(), {"weights": [1]}],
+    "index": [-1, 1, 2, 10 ** 300, -10 ** 300],
+    "label": [None, (), [1, 2], (1, 3), (0, 2), (2, 0), (-1, 0), (0, -1), (1,), (1, 2, 0), (True, 2), (1, True),
+              ("1", 2), (1, "2"), (1, None), ([1], 2), (1, [2]), ((1, 2),), 1, "12", Odd(), {"label": [1]}],
+    "start": [(None, None), (None, CLEAR_PAIR[1]), (CLEAR_PAIR[0], None), list(CLEAR_PAIR), CLEAR_PAIR[::-1],
+              CLEAR_PAIR[:1], CLEAR_PAIR + CLEAR_PAIR[:1], (ROW_MIX, COLUMN_MIX), (list(CLEAR_PAIR[0]), CLEAR_PAIR[1]),
+              (CLEAR_PAIR[0], ((2, 5), (0, 3), (3, 5))), (CLEAR_PAIR[0], ((2, 5), (0, 1), [3, 5])),
+              (CLEAR_PAIR[0], ((2, 5), (False, 1), (3, 5))), (), 0, False, "", Odd(), {"start": [1]}],
+    "changes": [None, TABLE, (TABLE, TABLE), [TABLE, TABLE], (((0, 0, 0),) * 2,), (((0, 0, 0),) * 2, TABLE),
+                (TABLE, ((0, 0, 0),) * 2), (((0, 0),) * 3,) * 2, (((0, 0, 0),) * 3,) * 2, (((0, 0, 0),),) * 2,
+                (((0, 0, 0), (0, 0, 1001)), ((0, 0, 0),) * 2), (((0, 0, 0),) * 2, ((0, -1001, 0), (0, 0, 0))),
+                (((0, 0, 0), (0, 0, True)), ((0, 0, 0),) * 2), (((0, 0, 0),) * 2, ((0, 0, 0), [0, 0, 0])),
+                (((0, 0, 0), (0, 0)), ((0, 0, 0),) * 2), (((0, 0, 0),) * 2,) * 3, 0, "ab", Odd(), {"changes": [1]}],
 }
 WRONG["column mixes"] = [[COLUMN_MIX, wrong, None] for wrong in WRONG["column mix"]]
-
-
-def refused(function, arguments):
-    """The error that a call raises."""
-    try:
-        told = function(*arguments)
-    except errors.MixError as error:
-        return error
-    raise AssertionError(f"{function.__name__}{tuple(arguments)!r} returned {told!r}")
+for kind, like in LIKE.items():
+    WRONG[kind], ERRORS[kind] = WRONG[like], ERRORS[like]
 
 
 def value_of(kind, wrong):
@@ -64,11 +74,13 @@ class EachByItself(unittest.TestCase):
                         self.assertIs(type(error), ERRORS[kind])
                         self.assertTrue(same(error.value, value_of(kind, wrong)), error.value)
 
-    def test_objects_of_all_kinds_are_refused_as_games_and_sides(self):
+    def test_objects_of_all_kinds_are_refused(self):
+        fits = {"side": [0, 1], "label": [(0, 1)], "start": [None]}
+        taking = ("game", "clear game", "side", "row mix", "clear other", "label", "start", "changes")
         for function, parameters in CALLS:
             for at, (_, kind) in enumerate(parameters):
-                for wrong in ANYTHING if kind in ("game", "side") else []:
-                    if kind == "side" and (same(wrong, 0) or same(wrong, 1)):
+                for wrong in ANYTHING if kind in taking else []:
+                    if any(same(wrong, fit) for fit in fits.get(kind, [])):
                         continue
                     arguments = fitting(parameters)
                     arguments[at] = wrong
@@ -144,6 +156,66 @@ class Sequence(unittest.TestCase):
         self.assertIsNone(refused(weights_for, [OBLONG, 1, [], None]).value)
 
 
+class Ties(unittest.TestCase):
+    CALLS = [(function, parameters) for function, parameters in CALLS if parameters[0][1] == "clear game"]
+
+    def test_they_are_told_ahead_of_all_but_the_game(self):
+        self.assertEqual(len(self.CALLS), 5)
+        for function, parameters in self.CALLS:
+            for wrong in ([None] * 2, [[]] * 2, [COLUMN_MIX, ROW_MIX], fitting(parameters)[1:]):
+                rest = wrong[:len(parameters) - 1]
+                for game in (OBLONG, ALIKE, ONE_ROW, filled(5, 5, 0)):
+                    error = refused(function, [game] + rest)
+                    self.assertIs(type(error), errors.HasTies)
+                    self.assertTrue(same(error.value, game))
+                self.assertIs(type(refused(function, [(OBLONG,)] + rest)), errors.InvalidGame)
+
+    def test_they_are_told_where_only_one_side_has_them(self):
+        game = (((1, 2), (0, 5)), ((3, 3), (1, 3)))
+        self.assertIs(type(refused(signed, [game])), errors.HasTies)
+        self.assertIs(type(refused(signed, [turned(game)])), errors.HasTies)
+
+
+class TwoMixes(unittest.TestCase):
+    """A pair that is not steady is told of behind both mixes, with both."""
+
+    def test_both_are_in_the_error(self):
+        for function, game, pair in ((blocks_of, OBLONG, STEADY_PAIR), (sign, CLEAR, CLEAR_PAIR)):
+            function(game, *pair)
+            for one, other in ((ROW_MIX, pair[1]), (pair[0], COLUMN_MIX), (ROW_MIX, COLUMN_MIX)):
+                error = refused(function, [game, one, other])
+                self.assertIs(type(error), errors.NotSteady)
+                self.assertTrue(same(error.value, (one, other)))
+            for one, other, value in ((None, None, None), (None, COLUMN_MIX, None), (ROW_MIX, ROW_MIX, ROW_MIX),
+                                      (COLUMN_MIX, pair[1], COLUMN_MIX), (ROW_MIX, [], [])):
+                error = refused(function, [game, one, other])
+                self.assertIs(type(error), errors.InvalidMix)
+                self.assertTrue(same(error.value, value))
+
+    def test_a_block_s_index_goes_ahead_of_the_mixes(self):
+        self.assertIs(type(refused(block_weights, [OBLONG, 1, None, None])), errors.InvalidNumber)
+        self.assertIs(type(refused(block_weights, [OBLONG, 0, None, 7])), errors.InvalidMix)
+        self.assertEqual(refused(block_weights, [OBLONG, 0, ROW_MIX, 7]).value, 7)
+
+    def test_labels_go_ahead_of_starts(self):
+        for function in (path, led):
+            error = refused(function, [CLEAR, (1, 3), (None, None)])
+            self.assertIs(type(error), errors.InvalidLabel)
+            self.assertEqual(error.value, (1, 3))
+            error = refused(function, [CLEAR, (1, 2), (None, None)])
+            self.assertIs(type(error), errors.NotSteady)
+            self.assertEqual(error.value, (None, None))
+
+    def test_tied_is_told_behind_changes_that_are_none(self):
+        nothing = (((0, 0, 0),) * 2,) * 2
+        error = refused(comes_out, [OBLONG, nothing])
+        self.assertIs(type(error), errors.Tied)
+        self.assertTrue(same(error.value, nothing))
+        self.assertIs(type(refused(comes_out, [OBLONG, nothing[:1]])), errors.InvalidChanges)
+        self.assertIs(type(refused(comes_out, [None, nothing[:1]])), errors.InvalidGame)
+        self.assertEqual(len(comes_out(CLEAR, nothing)), 3)
+
+
 class BuiltAnew(unittest.TestCase):
     def check(self, function, arguments, at, place=None):
         passed = arguments[at] if place is None else arguments[at][place]
@@ -169,7 +241,7 @@ class BuiltAnew(unittest.TestCase):
     def test_lists_in_what_is_refused(self):
         for function, parameters in CALLS:
             for at, (_, kind) in enumerate(parameters):
-                if kind not in WRONG or kind in ("row choice", "column choice", "column mixes"):
+                if kind not in WRONG or kind in ("row choice", "column choice", "column mixes", "index"):
                     continue
                 for wrong in self.wrong_objects():
                     arguments = fitting(parameters)
