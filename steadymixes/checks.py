@@ -7,7 +7,9 @@ from steadymixes.errors import (
     InvalidLot,
     InvalidMix,
     InvalidNumber,
+    InvalidPrizes,
     InvalidSide,
+    InvalidTable,
     NotSteady,
 )
 from steadymixes.kinds import (
@@ -15,12 +17,16 @@ from steadymixes.kinds import (
     changes_fit,
     choice_fits,
     game_fits,
+    is_fraction,
     is_whole,
     label_fits,
     lot_fits,
+    many_fits,
     mix_fits,
+    prizes_fit,
     side_fits,
     steady_fits,
+    table_fits,
 )
 from steadymixes.plays import steady_pair
 
@@ -95,6 +101,18 @@ def check_choice(game, side, choice):
         raise InvalidNumber(anew(choice))
 
 
+def check_many(many):
+    """InvalidNumber for what is no number of choices that a side can have."""
+    if not many_fits(many):
+        raise InvalidNumber(anew(many))
+
+
+def check_chances(mix, many):
+    """InvalidMix for what is no mix of so many choices."""
+    if not are_chances(mix, many):
+        raise InvalidMix(anew(mix))
+
+
 def check_weights(weights, many):
     """InvalidNumber for what is no tuple of so many weights that come to 1."""
     if not are_chances(weights, many):
@@ -129,3 +147,21 @@ def check_changes(game, changes):
     """InvalidChanges for what is no changes for the game."""
     if not changes_fit(game, changes):
         raise InvalidChanges(anew(changes))
+
+
+def check_table(table):
+    """InvalidTable for what is no table."""
+    if not table_fits(table):
+        raise InvalidTable(anew(table))
+
+
+def check_prizes(game, prizes):
+    """InvalidPrizes for what is no prizes for the game."""
+    if not prizes_fit(game, prizes):
+        raise InvalidPrizes(anew(prizes))
+
+
+def check_fraction(number):
+    """InvalidNumber for what is no fraction."""
+    if not is_fraction(number):
+        raise InvalidNumber(anew(number))

@@ -36,16 +36,24 @@ def are_chances(value, many):
     return sum_of(value) == (1, 1)
 
 
+def are_numbers(value):
+    """Whether any object is a tuple of numbers such as stand in tables, of changes and prizes, too."""
+    return type(value) is tuple and all([is_whole(number) and -BOUND <= number <= BOUND for number in value])
+
+
+def many_fits(value):
+    """Whether any object is a number of choices that a side can have."""
+    return is_whole(value) and 1 <= value <= MOST_CHOICES
+
+
 def is_row(value):
     """Whether any object can be a row of a table."""
-    if type(value) is not tuple or not 1 <= len(value) <= MOST_CHOICES:
-        return False
-    return all([is_whole(number) and -BOUND <= number <= BOUND for number in value])
+    return are_numbers(value) and many_fits(len(value))
 
 
 def table_fits(value):
     """Whether any object can be a table of a game."""
-    if type(value) is not tuple or not 1 <= len(value) <= MOST_CHOICES:
+    if type(value) is not tuple or not many_fits(len(value)):
         return False
     return all([is_row(row) for row in value]) and len(set([len(row) for row in value])) == 1
 
@@ -93,6 +101,13 @@ def changes_fit(game, value):
     """Whether any object is changes for a game."""
     # Changes have all that makes two tables a game, and the game's own shape.
     return game_fits(value) and all([size(value, side) == size(game, side) for side in (0, 1)])
+
+
+def prizes_fit(game, value):
+    """Whether any object is prizes for a game."""
+    if not is_tuple_of(value, 2):
+        return False
+    return all([are_numbers(numbers) and len(numbers) == size(game, side) for side, numbers in enumerate(value)])
 
 
 def steady_fits(game, value):

@@ -1,6 +1,6 @@
 """All functions of the package, each with its parameters and arguments that fit."""
 
-from steadymixes import blocks, corners, games, islands, paths, signs, steady
+from steadymixes import blocks, corners, games, islands, making, paths, prizes, signs, steady, striking, worths
 from steadymixes.errors import MixError
 
 from tests.samples import CLEAR, OBLONG
@@ -32,10 +32,17 @@ FITTING = {
     "label": (1, 2),
     "start": CLEAR_PAIR,
     "changes": (((1, -7, 3), (0, 2, 1)), ((1000, 5, 0), (3, -1000, 8))),
+    "rows": 2,
+    "columns": 3,
+    "table": OBLONG[0],
+    "prizes": ((1000, -1), (0, 3, -1000)),
+    "t": (-5, 3),
 }
 # What is refused of some kinds is what is refused of others.
 LIKE = {"steady one": "row mix", "clear one": "row mix", "steady other": "column mix", "clear other": "column mix",
         "clear game": "game"}
+
+MADE_OF = [("rows", "rows"), ("columns", "columns"), ("one", "row mix"), ("other", "column mix")]
 
 CALLS = [
     (games.is_game, [("value", "any")]),
@@ -81,6 +88,32 @@ CALLS = [
     (islands.some_changes, [("game", "game")]),
     (islands.island_signs, [("game", "game")]),
     (islands.stays, [("game", "game")]),
+    (making.can_be_only, MADE_OF),
+    (making.game_with_only, MADE_OF),
+    (making.game_with, MADE_OF),
+    (making.only_pair, [("game", "game")]),
+    (worths.is_table, [("value", "any")]),
+    (worths.against, [("table", "table")]),
+    (worths.at_least, [("table", "table"), ("one", "row mix")]),
+    (worths.at_most, [("table", "table"), ("other", "column mix")]),
+    (worths.worth, [("table", "table")]),
+    (worths.worth_paper, [("table", "table")]),
+    (worths.worth_holds, [("table", "table"), ("value", "any")]),
+    (worths.best_mixes, [("table", "table"), ("side", "side")]),
+    (striking.beats, [("game", "game"), ("side", "side"), ("mix", "column mix"), ("choice", "column choice")]),
+    (striking.beaten_by, [("game", "game"), ("side", "side"), ("choice", "column choice")]),
+    (striking.best_against, [("game", "game"), ("side", "side"), ("choice", "column choice")]),
+    (striking.left, [("game", "game")]),
+    (striking.strikes, [("game", "game")]),
+    (striking.strikes_hold, [("game", "game"), ("value", "any")]),
+    (striking.steady_left, [("game", "game")]),
+    (prizes.steady_at, [("game", "game"), ("prizes", "prizes"), ("t", "t"), ("one", "row mix"),
+                        ("other", "column mix")]),
+    (prizes.span, [("game", "game"), ("prizes", "prizes"), ("rows", "row lot"), ("columns", "column lot")]),
+    (prizes.spans, [("game", "game"), ("prizes", "prizes")]),
+    (prizes.turns, [("game", "game"), ("prizes", "prizes")]),
+    (prizes.pair_at, [("game", "game"), ("prizes", "prizes"), ("t", "t"), ("rows", "row lot"),
+                      ("columns", "column lot")]),
 ]
 
 

@@ -18,7 +18,8 @@ from tests.calls import CALLS, COLUMN_MIX, fitting, refused
 from tests.judges import lists_in, parts, same
 from tests.samples import ALIKE, GAME, IDLE, LARGE, OBLONG, SMALL, TWOFOLD, drawn_mix, filled
 
-WHETHER = "is_game is_mix is_lot is_steady lots_paper_holds is_corner tie_holds unties".split()
+WHETHER = "is_game is_mix is_lot is_steady lots_paper_holds is_corner tie_holds unties can_be_only is_table" \
+    " worth_holds beats strikes_hold steady_at".split()
 
 
 def kinds_in(value):
@@ -105,7 +106,7 @@ class Calls(unittest.TestCase):
 
     def test_a_list_that_is_told_is_new(self):
         telling = "pure whole_paper corners flat_corners steady_corners blocks islands signed path pairings comes_out" \
-            " island_signs stays".split()
+            " island_signs stays best_mixes strikes steady_left spans turns".split()
         for function, parameters in CALLS:
             arguments = fitting(parameters)
             with self.subTest(function.__name__):
@@ -123,7 +124,8 @@ class Calls(unittest.TestCase):
             if function.__name__ in WHETHER:
                 self.assertIs(type(told), bool, function.__name__)
             else:
-                self.assertLessEqual(kinds_in(told), {list, tuple, int, str, type(None)}, function.__name__)
+                flags = {bool} if function.__name__ in ("span", "spans") else set()
+                self.assertLessEqual(kinds_in(told), {list, tuple, int, str, type(None)} | flags, function.__name__)
 
     def test_what_is_passed_is_not_kept(self):
         mixes = [COLUMN_MIX, parts(1, 0, 0)]
@@ -143,6 +145,10 @@ class Places(unittest.TestCase):
             "signs": "tie tie_holds sign signed",
             "paths": "path led pairings",
             "islands": "unties comes_out some_changes island_signs stays",
+            "making": "can_be_only game_with_only game_with only_pair",
+            "worths": "is_table against at_least at_most worth worth_paper worth_holds best_mixes",
+            "striking": "beats beaten_by best_against left strikes strikes_hold steady_left",
+            "prizes": "steady_at span spans turns pair_at",
         }
         told = {f"steadymixes.{module} {name}" for module, listed in names.items() for name in listed.split()}
         self.assertEqual({f"{function.__module__} {function.__name__}" for function, _ in CALLS}, told)

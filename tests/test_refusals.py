@@ -21,7 +21,9 @@ ERRORS = {
     "column mix": errors.InvalidMix, "row lot": errors.InvalidLot, "column lot": errors.InvalidLot,
     "row choice": errors.InvalidNumber, "column choice": errors.InvalidNumber, "column mixes": errors.InvalidMix,
     "weights": errors.InvalidNumber, "index": errors.InvalidNumber, "label": errors.InvalidLabel,
-    "start": errors.NotSteady, "changes": errors.InvalidChanges,
+    "start": errors.NotSteady, "changes": errors.InvalidChanges, "rows": errors.InvalidNumber,
+    "columns": errors.InvalidNumber, "table": errors.InvalidTable, "prizes": errors.InvalidPrizes,
+    "t": errors.InvalidNumber,
 }
 
 TABLE = ((0, 0), (0, 0))
@@ -51,8 +53,21 @@ WRONG = {
                 (((0, 0, 0), (0, 0, 1001)), ((0, 0, 0),) * 2), (((0, 0, 0),) * 2, ((0, -1001, 0), (0, 0, 0))),
                 (((0, 0, 0), (0, 0, True)), ((0, 0, 0),) * 2), (((0, 0, 0),) * 2, ((0, 0, 0), [0, 0, 0])),
                 (((0, 0, 0), (0, 0)), ((0, 0, 0),) * 2), (((0, 0, 0),) * 2,) * 3, 0, "ab", Odd(), {"changes": [1]}],
+    "rows": [0, 6, -1, -2, 10 ** 300, -10 ** 300],
+    "columns": [0, 6, -1, -3, 10 ** 300, -10 ** 300],
+    "table": [None, (), ((),), [[0]], ([0, 0], [0, 0]), ((0, 0), [0, 0]), [(0, 0), (0, 0)], ((0, 0), (0,)), ((0,) * 6,),
+              ((0,),) * 6, ((0, 1001),), ((-1001,), (0,)), ((True,),), ((0, None),), ((0, "1"),), (0, 0), OBLONG, 0,
+              "ab", Odd(), {"table": [1]}],
+    "prizes": [None, (), ((0, 0),), [(0, 0), (0, 0, 0)], ([0, 0], (0, 0, 0)), ((0, 0), [0, 0, 0]), ((0, 0, 0), (0, 0)),
+               ((0, 0), (0, 0)), ((0,), (0, 0, 0)), ((0, 0), (0, 0, 0), ()), ((), ()), ((0, 1001), (0, 0, 0)),
+               ((0, 0), (-1001, 0, 0)), ((True, 0), (0, 0, 0)), ((0, 0), (0, False, 0)), ((0, 0), (0, None, 0)),
+               ((0, 0), 0), OBLONG, 0, "ab", Odd(), {"prizes": [1]}],
+    "t": [None, (), (1,), [1, 2], (1, 2, 3), (2, 4), (0, 2), (1, 0), (1, -2), (-1, -1), (True, 2), (1, True),
+          (False, 1), ("1", 2), (1, None), ([1], 2), ((1, 2),), 1, 0, "1/2", Odd(), {"t": [1]}],
 }
 WRONG["column mixes"] = [[COLUMN_MIX, wrong, None] for wrong in WRONG["column mix"]]
+# What callers pass integers for, so that no other object is refused there.
+INTEGERS = ("row choice", "column choice", "index", "rows", "columns")
 for kind, like in LIKE.items():
     WRONG[kind], ERRORS[kind] = WRONG[like], ERRORS[like]
 
@@ -75,8 +90,9 @@ class EachByItself(unittest.TestCase):
                         self.assertTrue(same(error.value, value_of(kind, wrong)), error.value)
 
     def test_objects_of_all_kinds_are_refused(self):
-        fits = {"side": [0, 1], "label": [(0, 1)], "start": [None]}
-        taking = ("game", "clear game", "side", "row mix", "clear other", "label", "start", "changes")
+        fits = {"side": [0, 1], "label": [(0, 1)], "start": [None], "t": [(0, 1)],
+                "table": [((0, 1),), ((1, 1),)]}
+        taking = "game, clear game, side, row mix, clear other, label, start, changes, table, prizes, t".split(", ")
         for function, parameters in CALLS:
             for at, (_, kind) in enumerate(parameters):
                 for wrong in ANYTHING if kind in taking else []:
@@ -241,7 +257,7 @@ class BuiltAnew(unittest.TestCase):
     def test_lists_in_what_is_refused(self):
         for function, parameters in CALLS:
             for at, (_, kind) in enumerate(parameters):
-                if kind not in WRONG or kind in ("row choice", "column choice", "column mixes", "index"):
+                if kind not in WRONG or kind in INTEGERS or kind == "column mixes":
                     continue
                 for wrong in self.wrong_objects():
                     arguments = fitting(parameters)
