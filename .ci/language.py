@@ -134,8 +134,12 @@ def nodes(file, methods):
             yield line, "L7 float"
         if isinstance(node, ast.Constant) and isinstance(node.value, str) and "%" in node.value:
             yield line, "L27 sign"
-        if isinstance(node, (ast.FunctionDef, ast.ClassDef)) and node.decorator_list:
-            yield line, "L4 decorator: look whether L5 allows it"
+        for told in getattr(node, "decorator_list", []):
+            in_class = isinstance(file.parents[node], ast.ClassDef)
+            if not in_class or not isinstance(told, ast.Name) or told.id != "property":
+                yield line, "L4 decorator: look whether L5 allows it"
+        if isinstance(node, ast.GeneratorExp):
+            yield line, "L7 generator expression beside a class with __eq__"
         if isinstance(node, ast.Compare) and any(isinstance(sign, (ast.Is, ast.IsNot)) for sign in node.ops):
             told = node.comparators[0]
             plain = isinstance(told, ast.Constant) and told.value in (None, True, False)

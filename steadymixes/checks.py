@@ -23,6 +23,7 @@ from steadymixes.kinds import (
     lot_fits,
     many_fits,
     mix_fits,
+    number_fits,
     prizes_fit,
     side_fits,
     steady_fits,
@@ -99,6 +100,12 @@ def check_choice(game, side, choice):
     """InvalidNumber for what is no choice of the side."""
     if not choice_fits(game, side, choice):
         raise InvalidNumber(anew(choice))
+
+
+def check_number(number):
+    """InvalidNumber for what cannot stand in a table."""
+    if not number_fits(number):
+        raise InvalidNumber(anew(number))
 
 
 def check_many(many):

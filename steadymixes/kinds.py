@@ -36,9 +36,14 @@ def are_chances(value, many):
     return sum_of(value) == (1, 1)
 
 
+def number_fits(value):
+    """Whether any object is a number such as stands in tables, and in changes and prizes, too."""
+    return is_whole(value) and -BOUND <= value <= BOUND
+
+
 def are_numbers(value):
-    """Whether any object is a tuple of numbers such as stand in tables, of changes and prizes, too."""
-    return type(value) is tuple and all([is_whole(number) and -BOUND <= number <= BOUND for number in value])
+    """Whether any object is a tuple of such numbers."""
+    return type(value) is tuple and all([number_fits(number) for number in value])
 
 
 def many_fits(value):

@@ -1,12 +1,14 @@
 """All functions of the package, each with its parameters and arguments that fit."""
 
-from steadymixes import blocks, corners, games, islands, making, paths, prizes, signs, steady, striking, worths
+from steadymixes import (blocks, corners, games, islands, making, paths, prizes, reading, signs, steady, striking,
+                         texts, worths)
 from steadymixes.errors import MixError
 
 from tests.samples import CLEAR, OBLONG
 
 # What is told of a parameter: the kind of its argument. The sides of mixes, lots and choices are those of OBLONG,
 # of two rows and three columns, with the side 1 where a side is passed. CLEAR is of the same shape, without ties.
+# Where "here" is said, all that is handed in is right, and nothing is refused.
 ROW_MIX, COLUMN_MIX = ((1, 3), (2, 3)), ((1, 2), (0, 1), (1, 2))
 STEADY_PAIR = ((1, 2), (1, 2)), ((1, 2), (1, 2), (0, 1))
 CLEAR_PAIR = ((7, 12), (5, 12)), ((2, 5), (0, 1), (3, 5))
@@ -37,6 +39,12 @@ FITTING = {
     "table": OBLONG[0],
     "prizes": ((1000, -1), (0, 3, -1000)),
     "t": (-5, 3),
+    "fraction": (-7, 12),
+    "column mix here": COLUMN_MIX,
+    "game here": OBLONG,
+    "blocks": [((((1, 2), (1, 2)), ((1, 1), (0, 1))), (((1, 1), (0, 1), (0, 1)),))],
+    "game text": "5,0 0,3 2,1 ; 1,2 4,-1 2,1",
+    "mix text": "1/3 0 2/3",
 }
 # What is refused of some kinds is what is refused of others.
 LIKE = {"steady one": "row mix", "clear one": "row mix", "steady other": "column mix", "clear other": "column mix",
@@ -114,6 +122,12 @@ CALLS = [
     (prizes.turns, [("game", "game"), ("prizes", "prizes")]),
     (prizes.pair_at, [("game", "game"), ("prizes", "prizes"), ("t", "t"), ("rows", "row lot"),
                       ("columns", "column lot")]),
+    (texts.show_fraction, [("fraction", "fraction")]),
+    (texts.show_mix, [("mix", "column mix here")]),
+    (texts.show_game, [("game", "game here")]),
+    (texts.show_blocks, [("game", "game here"), ("blocks", "blocks")]),
+    (reading.read_game, [("text", "game text")]),
+    (reading.read_mix, [("text", "mix text")]),
 ]
 
 

@@ -9,9 +9,11 @@ from random import Random
 import steadymixes
 from steadymixes.blocks import blocks, islands
 from steadymixes.corners import corners, mean_of, weights_for
+from steadymixes.desk import Desk
 from steadymixes.errors import InvalidChanges
 from steadymixes.games import is_game, is_lot, is_mix
 from steadymixes.islands import island_signs, stays, unties
+from steadymixes.live import Live
 from steadymixes.signs import tie_holds
 from steadymixes.steady import lots_paper_holds
 from tests.calls import CALLS, COLUMN_MIX, fitting, refused
@@ -149,9 +151,15 @@ class Places(unittest.TestCase):
             "worths": "is_table against at_least at_most worth worth_paper worth_holds best_mixes",
             "striking": "beats beaten_by best_against left strikes strikes_hold steady_left",
             "prizes": "steady_at span spans turns pair_at",
+            "texts": "show_fraction show_mix show_game show_blocks",
+            "reading": "read_game read_mix",
         }
         told = {f"steadymixes.{module} {name}" for module, listed in names.items() for name in listed.split()}
         self.assertEqual({f"{function.__module__} {function.__name__}" for function, _ in CALLS}, told)
+
+    def test_each_class_is_defined_in_its_own_module(self):
+        for told, module in ((Live, "live"), (Desk, "desk")):
+            self.assertEqual((told.__module__, told.__bases__), (f"steadymixes.{module}", (object,)))
 
     def test_no_clock_no_random_numbers_and_no_files(self):
         allowed = {"heapq", "math", "itertools", "collections", "__future__"}

@@ -23,7 +23,7 @@ ERRORS = {
     "weights": errors.InvalidNumber, "index": errors.InvalidNumber, "label": errors.InvalidLabel,
     "start": errors.NotSteady, "changes": errors.InvalidChanges, "rows": errors.InvalidNumber,
     "columns": errors.InvalidNumber, "table": errors.InvalidTable, "prizes": errors.InvalidPrizes,
-    "t": errors.InvalidNumber,
+    "t": errors.InvalidNumber, "game text": errors.Unreadable, "mix text": errors.Unreadable,
 }
 
 TABLE = ((0, 0), (0, 0))
@@ -64,6 +64,10 @@ WRONG = {
                ((0, 0), 0), OBLONG, 0, "ab", Odd(), {"prizes": [1]}],
     "t": [None, (), (1,), [1, 2], (1, 2, 3), (2, 4), (0, 2), (1, 0), (1, -2), (-1, -1), (True, 2), (1, True),
           (False, 1), ("1", 2), (1, None), ([1], 2), ((1, 2),), 1, 0, "1/2", Odd(), {"t": [1]}],
+    "game text": [None, "", "1,1 ", "1,1 ; ", "01,1", "1,-0", "1,1 ;  2,2", "1001,0", OBLONG, [["1,1"]], b"1,1", 1,
+                  Odd()],
+    "mix text": [None, "", "1 ", "1/2  1/2", "2/4 1/2", "1/1", "01", "-0 1", "1/2 1/3", "1\n", COLUMN_MIX, ["1"], b"1",
+                 1, Odd()],
 }
 WRONG["column mixes"] = [[COLUMN_MIX, wrong, None] for wrong in WRONG["column mix"]]
 # What callers pass integers for, so that no other object is refused there.
@@ -92,7 +96,8 @@ class EachByItself(unittest.TestCase):
     def test_objects_of_all_kinds_are_refused(self):
         fits = {"side": [0, 1], "label": [(0, 1)], "start": [None], "t": [(0, 1)],
                 "table": [((0, 1),), ((1, 1),)]}
-        taking = "game, clear game, side, row mix, clear other, label, start, changes, table, prizes, t".split(", ")
+        taking = "game, clear game, side, row mix, clear other, label, start, changes, table, prizes, t, " \
+            "game text, mix text".split(", ")
         for function, parameters in CALLS:
             for at, (_, kind) in enumerate(parameters):
                 for wrong in ANYTHING if kind in taking else []:
