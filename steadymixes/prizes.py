@@ -43,9 +43,9 @@ def bend_with(game, prizes, side, lot, chosen):
 def bends_of(game, prizes, side):
     """The list of (t, lot, best) for those t and mixes of a side that are alone with their lot and best choices.
 
-    All t and mixes by which a lot, or less of it, makes some choices best are means of such, and what can be had
-    by t going on and on. Where all prizes of the other side are alike, t alters nothing, and there are none: the
-    corners then do as well, at whatever t.
+    All t and mixes by which a lot, or less of it, makes some choices best are means of such ones, but for what
+    comes by t going on and on. Where all prizes of the other side are alike, no t is alone; t alters nothing then,
+    and corners do as well, at whatever t.
     """
     if min(prizes[1 - side]) == max(prizes[1 - side]):
         return [((0, 1), lot_of(mix), best_choices(game, 1 - side, mix)) for mix in corners_of(game, side)]
@@ -72,7 +72,8 @@ def stretch_of(bends, theirs, lot, target):
     """The stretch of all t at which some mix with just a lot makes all of a target best, None if there are none.
 
     Tells (least, its, greatest, own), as span does. The bends are those of the mix's side, theirs are the prizes
-    of the other one.
+    of the other one. A mean of bends has what any of them has in its lot: so there are such mixes just if the
+    bends near the lot make it up, and at an end just if those at that end do.
     """
     near = [(t, told) for t, told, best in bends if within(told, lot) and within(target, best)]
     if not covered([told for _, told in near], lot):
@@ -104,11 +105,10 @@ def both_in(one, other):
     greatest = extremes(greatests)[0] if greatests else None
     its = least is not None and in_stretch(one, least) and in_stretch(other, least)
     own = greatest is not None and in_stretch(one, greatest) and in_stretch(other, greatest)
-    if least is None or greatest is None:
-        return least, its, greatest, own
-    if least == greatest:
-        return (least, True, greatest, True) if its and own else None
-    return (least, its, greatest, own) if extremes([least, greatest])[0] == least else None
+    if least is not None and greatest is not None:
+        if extremes([least, greatest])[0] != least or least == greatest and not its:
+            return None
+    return least, its, greatest, own
 
 
 def span_among(prizes, both, rows, columns):
